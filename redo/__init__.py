@@ -1,0 +1,1 @@
+"""Redo: things made from things, and papers that show them."""
