@@ -14,7 +14,8 @@ METHODS = set(
 CHANGING = set("append clear extend insert pop remove reverse setdefault update".split())
 VALUES = set("count index title find get join lower upper split strip copy add".split())
 TAKEN = set(dir(str) + dir(int) + dir(list) + dir(tuple) + dir(dict) + dir(set) + dir(bytes))
-DOUBLE = ("__init__", "__eq__", "__repr__", "__str__", "__len__")
+# L28 would rather have none of the others written.
+DOUBLE = ("__init__",)
 ERRORS = {name for name in dir(builtins) if isinstance(getattr(builtins, name), type)
           and issubclass(getattr(builtins, name), BaseException)}
 KINDS = {"int", "str", "bool", "list", "tuple", "dict"}
@@ -115,6 +116,8 @@ def sets_on_the_spot(tree):
             beside = isinstance(at, ast.Compare) and isinstance(at.ops[0], (ast.In, ast.NotIn, ast.Eq, ast.NotEq))
             within = called(at) in ("sorted", "len") and at.keywords == []
             found += [] if beside or within else [node]
+            asked = isinstance(at, ast.Compare) and isinstance(at.ops[0], (ast.In, ast.NotIn))
+            found += [node] if isinstance(node, ast.Set) and len(node.elts) > 2 and not asked else []
     return rows(found)
 
 

@@ -16,13 +16,13 @@ BROKEN = {
     "plain_classes": (
         "def f():\n    class A:\n        pass", "class A(dict):\n    pass", "class A(StopIteration):\n    pass",
         "class A:\n    def b(self):\n        pass\n    def b(self):\n        pass",
-        "class A:\n    def __iter__(self):\n        return 1",
+        "class A:\n    def __iter__(self):\n        return 1", "class A:\n    def __len__(self):\n        return 1",
         "class A:\n    def __init__(self):\n        return None",
     ),
     "sets_on_the_spot": (
         "def f(a):\n    return set(a)", "def f(a):\n    b = {1, 2}\n    return 1 in b",
         "def f(a):\n    for b in set(a):\n        g(b)", "def f(a):\n    return sorted(set(a), key=len)",
-        "def f(a):\n    return list(set(a) - set([1]))",
+        "def f(a):\n    return list(set(a) - set([1]))", "def f(a):\n    return set(a) == {1, 2, 3}",
     ),
     "lambdas_apart": ("def f():\n    return [lambda x: x, lambda x: 1]",),
     "top_values_are_read": (
@@ -93,7 +93,7 @@ def one(xs, most=3, least=-1):
             raise BadWord(k)
     for x in list(xs):
         xs.append(x)
-    return sorted(set(xs) - {1, 2}) + [k for k in range(most)]
+    return [] if most in {1, 2, 3} else sorted(set(xs) - {1, 2}) + [k for k in range(most)]
 def other(d):
     try:
         found = d["a"]
