@@ -73,8 +73,8 @@ class Rules(unittest.TestCase):
 
 class Files(Rules):
     def test_the_modules_are_there(self):
-        names = "__init__ errors values stamps exprs telling recipes recipetexts replays books booktexts".split()
-        for name in names:
+        names = "__init__ errors values stamps exprs telling recipes recipetexts replays books booktexts"
+        for name in (names + " making lines checker papers held").split():
             self.assertTrue((PACKAGE / (name + ".py")).is_file(), name)
 
     def test_nothing_else_lies_there(self):

@@ -273,7 +273,8 @@ class Any(unittest.TestCase):
         seen = {True: 0, False: 0}
         for _ in range(6000):
             thing = changed(source, things.right_recipe(source, 6), 6)
-            right = plainly(thing, 0)
+            # A leaf may give way to what is greater, so a recipe of just sixty may become one of more.
+            right = plainly(thing, 0) and things.measured(thing)[0] <= 60
             seen[right] += 1
             self.assertIs(is_recipe(thing), right)
         self.assertGreater(min(seen.values()), 500)
@@ -310,7 +311,7 @@ def changed(source, thing, steps):
 
 
 def plainly(thing, got):
-    """Whether a thing, here always within all bounds, is a recipe where so many values are got."""
+    """Whether a thing, here never too deep, is a recipe, perhaps of too many, where so many values are got."""
     try:
         word = recipe_word(thing)
         if word == "fail":
@@ -352,13 +353,18 @@ def plain_expr(thing, got):
     return many == len(thing) - 1 and all(plain_expr(part, got) for part in thing[1:])
 
 
-def plain_value(thing):
-    """Of the things that stand here: small, shallow, and of few signs."""
+def plain_value(thing, rows=4):
+    """Of the things that stand here: whole numbers and texts within their bounds, if they are such."""
     if type(thing) is tuple:
-        return len(thing) < 9 and all(plain_value(part) for part in thing)
+        fits = rows > 0 and len(thing) < 9 and plain_many(thing) <= 40
+        return fits and all(plain_value(part, rows - 1) for part in thing)
     if type(thing) is str:
         return all(sign.islower() or sign.isdigit() or sign == "-" for sign in thing)
     return type(thing) is int
+
+
+def plain_many(thing):
+    return 1 + sum(plain_many(part) for part in thing) if type(thing) is tuple else 1
 
 
 if __name__ == "__main__":

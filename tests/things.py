@@ -3,6 +3,12 @@
 import random
 import string
 
+from redo.lines import is_right
+from redo.making import line_of
+from redo.recipetexts import show_recipe
+from redo.replays import replay
+from redo.stamps import stamp_of, value_by
+
 # A value of just forty.
 FORTY = ((0,) * 8, (0,) * 8, (0,) * 8, (0,) * 7, 0, 0, 0, 0)
 
@@ -85,12 +91,15 @@ def expr(source, depth, got):
     return (word,) + tuple([expr(source, depth - 1, got) for _ in range(1 if word == "many" else 2)])
 
 
-def asked(source, got):
+def asked(source, got, wanted):
     """An expr that often tells a name."""
-    return ("put", source.choice(["a", "b", "c"])) if source.random() < 0.7 else expr(source, 2, got)
+    return ("put", source.choice(wanted)) if source.random() < 0.7 else expr(source, 2, got)
 
 
-def recipe(source, depth, got=0, words=("say", "fail", "want", "peek", "when")):
+ALL_WORDS = ("say", "fail", "want", "peek", "when")
+
+
+def recipe(source, depth, got=0, words=ALL_WORDS, wanted=("a", "b", "c")):
     """Any recipe, but that it may be too great, too deep, or of too many wants."""
     word = source.choice([word for word in words if depth > 2 or word in ("say", "fail")])
     if word == "fail":
@@ -98,14 +107,15 @@ def recipe(source, depth, got=0, words=("say", "fail", "want", "peek", "when")):
     if word == "say":
         return ("say", expr(source, min(depth - 1, 4), got))
     if word == "when":
-        return ("when", expr(source, 3, got)) + tuple([recipe(source, depth - 1, got, words) for _ in range(2)])
-    return (word, asked(source, got), recipe(source, depth - 1, got + 1, words))
+        ways = tuple([recipe(source, depth - 1, got, words, wanted) for _ in range(2)])
+        return ("when", expr(source, 3, got)) + ways
+    return (word, asked(source, got, wanted), recipe(source, depth - 1, got + 1, words, wanted))
 
 
-def right_recipe(source, depth, words=("say", "fail", "want", "peek", "when")):
+def right_recipe(source, depth, words=ALL_WORDS, wanted=("a", "b", "c")):
     """Any recipe of point 14."""
     while True:
-        found = recipe(source, depth, 0, words)
+        found = recipe(source, depth, 0, words, wanted)
         size = measured(found)
         if size[0] <= 60 and size[1] <= 20 and size[2] <= 12:
             return found
@@ -155,6 +165,119 @@ def asking(words, last, name="a"):
 def names(many):
     """So many names, rising."""
     return [one + other for one in "ab" for other in string.ascii_lowercase][:many]
+
+
+NAMES = tuple("abcdefghij")
+HONEST = ("say", "want", "when", "fail")
+PEEKING = HONEST + ("peek",)
+# Many wants, few failings: books of such recipes have good things of many reads, and others.
+WEIGHTS = {"say": 3, "want": 8, "when": 3, "fail": 1, "peek": 3}
+
+
+def book(source, words=PEEKING):
+    """Any book of some of the names a to j; the others lack."""
+    told = {}
+    made = {}
+    wanted = NAMES[:source.choice([2, 4, 7, 10])]
+    for name in source.sample(wanted, source.randint(len(wanted) // 2, len(wanted))):
+        if source.random() < 0.35:
+            told[name] = source.choice([0, 1, 2, "", "a", "f", "c", (), (0, "b"), (1, 2, 3), value(source, 1)])
+        else:
+            # More often than others those ahead of it are wanted, so that not all goes round.
+            pool = (list(told) + list(made)) * source.choice([0, 3, 9]) + list(wanted)
+            made[name] = right_lively(source, source.randint(0, 5), words, pool)
+    return (told, made)
+
+
+def right_lively(source, depth, words, wanted):
+    while True:
+        found = lively(source, depth, 0, words, wanted)
+        if measured(found)[0] <= 60:
+            return found
+
+
+def lively(source, depth, got, words, wanted):
+    """A recipe that mostly doesn't fail, on each way at most so many wants, peeks and whens."""
+    able = [word for word in words if depth > 0 or word in ("say", "fail")]
+    word = source.choices(able, [WEIGHTS[word] for word in able])[0]
+    if word == "fail":
+        return ("fail", source.choice(["sour", "x"]))
+    if word == "say":
+        return ("say", saying(source, got))
+    if word == "when":
+        ways = tuple([lively(source, depth - 1, got, words, wanted) for _ in range(2)])
+        return ("when", tested(source, got)) + ways
+    name = ("got", source.randrange(got)) if got > 0 and source.random() < 0.1 else ("put", source.choice(wanted))
+    return (word, name, lively(source, depth - 1, got + 1, words, wanted))
+
+
+def saying(source, got):
+    if got > 0 and source.random() < 0.8:
+        one, other = ("got", source.randrange(got)), ("got", source.randrange(got))
+        return source.choice([one, one, ("same", one, other), ("row", ()), ("row", (one,)), ("sum", one, other),
+                              ("join", one, other), ("many", one), ("less", one, ("put", 1))])
+    return ("put", source.choice([0, 1, 2, "", "a", "b", "d", (), (1,)]))
+
+
+def tested(source, got):
+    if got > 0 and source.random() < 0.8:
+        one = ("got", source.randrange(got))
+        return source.choice([one, ("same", one, ("put", source.choice([0, 1, "a", ()]))), ("less", one, ("put", 1))])
+    return ("put", source.choice([0, 1, "", "a", (), (0,)]))
+
+
+def reads(source):
+    """Any reads of a line, of few names and stamps."""
+    many = source.choice([0, 0, 1, 1, 2, 3])
+    return tuple([(source.choice(NAMES[:3]), source.choice(["0", "1", "'a", "'", "()", "(1)"])) for _ in range(many)])
+
+
+def nearly(source, recipe, line):
+    """The line with reads as the recipe wants them, as far as it goes, and often with its end."""
+    found = []
+    while True:
+        came = replay(recipe, [(name, value_by(stamp)) for name, stamp in found], [])
+        if came[0] != "wants" or source.random() < 0.2:
+            break
+        found.append((came[1], source.choice(["0", "1", "'a", "'b", "()", "(1)"])))
+    if source.random() < 0.2 or came[0] == "peeks":
+        return (line[0], tuple(found), line[2])
+    return (line[0], tuple(found), ("made", stamp_of(came[1])) if came[0] == "made" else came)
+
+
+def held(source, filled):
+    """What may be held by now: lines of many of the book's made things, some of them by other reads or recipes."""
+    found = {}
+    for name in source.sample(list(filled[1]), source.randint(0, len(filled[1]))):
+        recipe = filled[1][name]
+        if source.random() < 0.1:
+            recipe = right_lively(source, 3, PEEKING, NAMES[:4])
+        line = line_of((filled[0], dict(filled[1], **{name: recipe})), name)
+        if source.random() < 0.2:
+            line = nearly(source, recipe, line)
+        text = show_recipe(recipe)
+        if "peek" in text or is_right(recipe, line):
+            found[name] = (text, line)
+    return found
+
+
+def changed(source, filled):
+    """The book, some of its things told, made or struck otherwise."""
+    told, made = dict(filled[0]), dict(filled[1])
+    for name in source.sample(NAMES, source.choice([0, 1, 1, 2, 3])):
+        told.pop(name, None)
+        made.pop(name, None)
+        way = source.random()
+        if way < 0.5:
+            told[name] = source.choice([0, 1, "", "a", ()])
+        elif way < 0.8:
+            made[name] = right_lively(source, 3, PEEKING, NAMES)
+    return (told, made)
+
+
+def shuffled(source, filled):
+    """The same book, its dicts filled in another order."""
+    return tuple([dict(source.sample(list(part.items()), len(part))) for part in filled])
 
 
 def book_of(told, made):
