@@ -1,6 +1,5 @@
 """What is held: whether it is such, what stands of it, and papers in it (points 50 to 53)."""
 
-from redo.books import sort_at
 from redo.booktexts import recipe_or_none
 from redo.lines import is_line, is_right
 from redo.making import lines_of
@@ -47,17 +46,28 @@ def ends_now(book):
 
 
 def stands(book, held, name):
-    if name not in held or sort_at(book, name) != "made":
-        return False
-    if held[name][0] != show_recipe(book[1][name]):
-        return False
-    return is_as_now(ends_now(book), held[name][1])
+    line = own_line(book[1], held, name)
+    return line is not None and otherwise_now(ends_now(book), line) is None
 
 
-def is_as_now(ends, line):
-    if not all([ends.get(read[0]) == ("made", read[1]) for read in line[1]]):
-        return False
-    return line[2][0] != "wants" or ends.get(line[2][1], LACKS)[0] != "made"
+# The line that is held of a name with the text of the recipe by which it is made; None where there is no such.
+
+def own_line(recipes, held, name):
+    if name not in held or name not in recipes or held[name][0] != show_recipe(recipes[name]):
+        return None
+    return held[name][1]
+
+
+# The first thing of a line that is otherwise by ends now, as point 57 tells it; None where there is none.
+
+def otherwise_now(ends, line):
+    for k, read in enumerate(line[1]):
+        end = ends.get(read[0], LACKS)
+        if end != ("made", read[1]):
+            return ("read", k, read[0], read[1], end)
+    if line[2][0] == "wants" and ends.get(line[2][1], LACKS)[0] == "made":
+        return ("wanted", line[2][1], ends[line[2][1]][1])
+    return None
 
 
 def paper_in(held, names):

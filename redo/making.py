@@ -35,7 +35,7 @@ def made_afresh(book):
     good = dict(book[0])
     come = {}
     for name, recipe in book[1].items():
-        come[name] = ((), (), step_of(recipe, ()))
+        come[name] = start_of(recipe)
     grown = True
     while grown:
         many = len(good)
@@ -48,17 +48,27 @@ def made_afresh(book):
     return (good, come)
 
 
+def start_of(recipe):
+    return ((), (), step_of(recipe, ()))
+
+
 def gone_on(come, good):
-    got = list(come[0])
-    reads = list(come[1])
+    while awaited_at(come) in good:
+        come = given(come, good[awaited_at(come)])
+    return come
+
+
+# The name of the thing that is wanted or peeked next, None where the recipe is at its end.
+
+def awaited_at(come):
+    return come[2][1] if come[2][0] in GETTING else None
+
+
+def given(come, value):
     step = come[2]
-    while step[0] in GETTING and step[1] in good:
-        value = good[step[1]]
-        got.append(value)
-        if step[0] == "want":
-            reads.append((step[1], value))
-        step = step_of(step[2], got)
-    return (tuple(got), tuple(reads), step)
+    got = come[0] + (value,)
+    reads = come[1] + ((step[1], value),) if step[0] == "want" else come[1]
+    return (got, reads, step_of(step[2], got))
 
 
 def lines_from(come):

@@ -1,5 +1,6 @@
 """Second, plain readings of the document: slow, and in another way than the package."""
 
+from redo.recipetexts import show_recipe
 from redo.replays import replay
 from redo.stamps import stamp_of, value_by
 
@@ -81,3 +82,170 @@ def let_by(book, paper):
             if not lacks and not any(one == end[1] and last[0] != "made" for one, _, last in paper):
                 return False
     return True
+
+
+def end_now(book, name):
+    """The end now of a name (51)."""
+    if name in book[0]:
+        return ("made", stamp_of(book[0][name]))
+    return line(book, name)[2] if name in book[1] else ("lacks",)
+
+
+def reason(book, held, name):
+    """The reason why the line of a made name doesn't stand (57): the first of all that are so."""
+    if name not in held:
+        return ("none",)
+    text, (_, reads, end) = held[name]
+    found = [("recipe",)] if text != show_recipe(book[1][name]) else []
+    for place, (read, stamp) in enumerate(reads):
+        if end_now(book, read) != ("made", stamp):
+            found.append(("read", place, read, stamp, end_now(book, read)))
+    if end[0] == "wants" and end_now(book, end[1])[0] == "made":
+        found.append(("wanted", end[1], end_now(book, end[1])[1]))
+    return found[0] if found else None
+
+
+def reached(held, names):
+    """The names reached by held (53), by calling itself."""
+    found = set()
+
+    def reach(name):
+        if name not in found:
+            found.add(name)
+            if name in held:
+                _, reads, end = held[name][1]
+                for read, _ in reads:
+                    reach(read)
+                if end[0] == "wants":
+                    reach(end[1])
+
+    for name in names:
+        reach(name)
+    return sorted(found)
+
+
+def came_to(name, came, reads):
+    """The line of a recipe that came there by these reads, pairs (name, stamp)."""
+    if came[0] == "made":
+        return (name, tuple(reads), ("made", stamp_of(came[1])))
+    return (name, tuple(reads), came if came[0] == "fails" else ("wants", came[1]))
+
+
+def brought(book, held, names):
+    """What bringing tells (54, 55), by calling itself."""
+    held, log, lines = dict(held), [], {}
+
+    def stamp(name):
+        """The stamp of what is made by now, else None."""
+        if name in book[0]:
+            return stamp_of(book[0][name])
+        end = lines[name][2] if lines.get(name) else ("lacks",)
+        return end[1] if end[0] == "made" else None
+
+    def brought_stamp(name):
+        bring(name)
+        return stamp(name)
+
+    def is_kept(name, text):
+        if name not in held or held[name][0] != text:
+            return False
+        _, reads, end = held[name][1]
+        as_read = all(brought_stamp(read) == was for read, was in reads)
+        return as_read and (end[0] != "wants" or brought_stamp(end[1]) is None)
+
+    def done(name, recipe):
+        reads, given, peeks = [], [], []
+        while True:
+            came = replay(recipe, given, peeks)
+            if came[0] not in ("wants", "peeks") or brought_stamp(came[1]) is None:
+                return came_to(name, came, reads)
+            if came[0] == "wants":
+                reads.append((came[1], stamp(came[1])))
+            (given if came[0] == "wants" else peeks).append((came[1], value_by(stamp(came[1]))))
+
+    def bring(name):
+        if name not in book[1] or name in lines:
+            return
+        lines[name] = None
+        text = show_recipe(book[1][name])
+        word = "kept" if is_kept(name, text) else "done"
+        lines[name] = held[name][1] if word == "kept" else done(name, book[1][name])
+        held[name] = (text, lines[name])
+        log.append((word, name))
+
+    for name in names:
+        bring(name)
+    return held, log
+
+
+def course(book, held, name, reads):
+    """A task of a weave (70): it tells what it waits for, and is given the stamp of that, or None."""
+    text, recipe = show_recipe(book[1][name]), book[1][name]
+    if name in held and held[name][0] == text:
+        kept = held[name][1]
+        for read, stamp in kept[1]:
+            if (yield "look", read) != stamp:
+                break
+            reads.append((read, stamp))
+        else:
+            if kept[2][0] != "wants" or (yield "end", kept[2][1]) is None:
+                return "kept", kept
+    reads.clear()
+    given, peeks = [], []
+    while True:
+        came = replay(recipe, given, peeks)
+        if came[0] not in ("wants", "peeks"):
+            return "done", came_to(name, came, reads)
+        stamp = yield "do", came[1]
+        if stamp is None:
+            return "done", came_to(name, came, reads)
+        if came[0] == "wants":
+            reads.append((came[1], stamp))
+        (given if came[0] == "wants" else peeks).append((came[1], value_by(stamp)))
+
+
+class Weaving:
+    """A weave (70 to 73), each of its tasks a course."""
+
+    def __init__(self, book, held, names):
+        self.book, self.held, self.log = book, dict(held), []
+        self.tasks, self.stamps = {}, {name: stamp_of(value) for name, value in book[0].items()}
+        for name in names:
+            self.begin(name)
+
+    def begin(self, name):
+        if name in self.book[1] and name not in self.tasks:
+            reads = []
+            # What it waits for: nothing yet; at last, when it is settled, False.
+            self.tasks[name] = [course(self.book, self.held, name, reads), reads, None]
+
+    def is_settled(self, name):
+        return name not in self.book[1] or name in self.tasks and self.tasks[name][2] is False
+
+    def left(self):
+        return sorted(name for name in self.tasks if not self.is_settled(name))
+
+    def ready(self):
+        waits = {name: self.tasks[name][2] for name in self.left()}
+        return [name for name, waited in waits.items() if waited is None or self.is_settled(waited[1])]
+
+    def move(self, name):
+        task = self.tasks[name]
+        try:
+            task[2] = task[0].send(task[2] and self.stamps.get(task[2][1]))
+            self.begin(task[2][1])
+        except StopIteration as stopped:
+            self.settle(name, *stopped.value)
+        if not self.ready():
+            for left in self.left():
+                _, reads, (where, waited) = self.tasks[left]
+                kept = where == "end"
+                self.settle(left, "kept" if kept else "done",
+                            self.held[left][1] if kept else (left, tuple(reads), ("wants", waited)))
+
+    def settle(self, name, word, line):
+        self.tasks[name][2] = False
+        self.held[name] = (show_recipe(self.book[1][name]), line)
+        self.log.append((word, name))
+        if line[2][0] == "made":
+            self.stamps[name] = line[2][1]

@@ -51,14 +51,18 @@ def package_trees():
     return {path.stem: ast.parse(path.read_text()) for path in sorted(PACKAGE.glob("*.py"))}
 
 
+def lists_and_dicts(tree):
+    """The names at the top that are given lists or dicts there."""
+    given = [node for node in tree.body if isinstance(node, ast.Assign)]
+    return {node.targets[0].id for node in given if isinstance(node.value, (ast.List, ast.Dict))}
+
+
 def top_values(tree):
-    """The names at the top that hold lists or dicts, those drawn from the package too."""
-    found = set()
+    """The names at the top that hold lists or dicts, those drawn from the very files that define them too."""
+    found = lists_and_dicts(tree)
     for node in tree.body:
-        if isinstance(node, ast.Assign) and isinstance(node.value, (ast.List, ast.Dict)):
-            found.add(node.targets[0].id)
         if isinstance(node, ast.ImportFrom):
-            there = top_values(ast.parse((PACKAGE / (node.module.split(".")[1] + ".py")).read_text()))
+            there = lists_and_dicts(ast.parse((PACKAGE / (node.module.split(".")[1] + ".py")).read_text()))
             found.update([alias.name for alias in node.names if alias.name in there])
     return found
 

@@ -74,7 +74,8 @@ class Rules(unittest.TestCase):
 class Files(Rules):
     def test_the_modules_are_there(self):
         names = "__init__ errors values stamps exprs telling recipes recipetexts replays books booktexts"
-        for name in (names + " making lines checker papers held").split():
+        names += " making lines checker papers held bringing reasons deeds sweeping weaving"
+        for name in names.split():
             self.assertTrue((PACKAGE / (name + ".py")).is_file(), name)
 
     def test_nothing_else_lies_there(self):

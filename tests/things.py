@@ -245,13 +245,13 @@ def nearly(source, recipe, line):
     return (line[0], tuple(found), ("made", stamp_of(came[1])) if came[0] == "made" else came)
 
 
-def held(source, filled):
+def held(source, filled, words=PEEKING):
     """What may be held by now: lines of many of the book's made things, some of them by other reads or recipes."""
     found = {}
     for name in source.sample(list(filled[1]), source.randint(0, len(filled[1]))):
         recipe = filled[1][name]
         if source.random() < 0.1:
-            recipe = right_lively(source, 3, PEEKING, NAMES[:4])
+            recipe = right_lively(source, 3, words, NAMES[:4])
         line = line_of((filled[0], dict(filled[1], **{name: recipe})), name)
         if source.random() < 0.2:
             line = nearly(source, recipe, line)
@@ -261,7 +261,7 @@ def held(source, filled):
     return found
 
 
-def changed(source, filled):
+def changed(source, filled, words=PEEKING):
     """The book, some of its things told, made or struck otherwise."""
     told, made = dict(filled[0]), dict(filled[1])
     for name in source.sample(NAMES, source.choice([0, 1, 1, 2, 3])):
@@ -271,8 +271,66 @@ def changed(source, filled):
         if way < 0.5:
             told[name] = source.choice([0, 1, "", "a", ()])
         elif way < 0.8:
-            made[name] = right_lively(source, 3, PEEKING, NAMES)
+            made[name] = right_lively(source, 3, words, NAMES)
     return (told, made)
+
+
+def busy(source, words):
+    """A book of few told things, on which much hangs, and many made ones, some of which go round."""
+    made = {}
+    is_steady = source.random() < 0.4
+    for name in NAMES[:8]:
+        ahead = [other for other in NAMES[:8] if other > name]
+        pool = ["i", "j"] * 3 + ahead * source.choice([1, 4]) + list(NAMES[:8]) * source.choice([0, 0, 1]) + ["zz"]
+        depth = source.randint(1, 5)
+        made[name] = steady(source, words, pool) if is_steady else right_lively(source, depth, words, pool)
+    return ({"i": source.choice([0, 1]), "j": source.choice([0, 1, "a"])}, made)
+
+
+def steady(source, words, wanted):
+    """A recipe that asks for some things and says what it got: so a change goes far."""
+    asks = [source.choice([word for word in words if word in ("want", "peek")]) for _ in range(source.randint(1, 3))]
+    found = ("say", source.choice([("got", len(asks) - 1), ("got", 0), ("same", ("got", 0), ("put", 1))]))
+    for word in asks:
+        found = (word, ("put", source.choice(wanted)), found)
+    return found
+
+
+def turned(source, filled, words):
+    """The book with its told things told otherwise, and at times another change."""
+    told, made = changed(source, filled, words) if source.random() < 0.3 else filled
+    return ({name: source.choice([0, 1, 1, "a", "c", ()]) for name in told}, dict(made))
+
+
+def elder(source, words=PEEKING):
+    """A book, and held lines of some books that were ahead of it."""
+    now = source.choice([book, busy, busy])(source, words)
+    kept = {}
+    for _ in range(source.choice([0, 1, 1, 2, 4])):
+        if source.random() < 0.5:
+            kept.update({name: (show_recipe(recipe), line_of(now, name)) for name, recipe in now[1].items()})
+        kept.update(held(source, now, words))
+        now = source.choice([changed, turned, turned])(source, now, words)
+    return now, kept
+
+
+def asked_names(source, filled):
+    """Names as they may be asked for: made ones most, told and lacking ones, some twice, or none."""
+    pool = list(NAMES) + sorted(filled[1]) * 4
+    return [source.choice(pool) for _ in range(source.choice([0, 1, 1, 2, 3, 6, 12]))]
+
+
+def line_by(text):
+    """A line from words: its name, its reads' names and stamps, a colon, and the end's two words."""
+    ahead, _, behind = text.partition(" : ")
+    words = ahead.split(" ")
+    return (words[0], tuple(zip(words[1::2], words[2::2])), tuple(behind.split(" ")))
+
+
+def held_by(filled, *texts):
+    """Held of these lines, each with the text of the book's own recipe."""
+    lines = [line_by(text) for text in texts]
+    return {line[0]: (show_recipe(filled[1][line[0]]), line) for line in lines}
 
 
 def shuffled(source, filled):

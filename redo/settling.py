@@ -1,0 +1,35 @@
+"""What is settled of a book's things, one behind the other: the ground of bringing and weaving (points 55 and 73)."""
+
+from redo.held import own_line
+from redo.recipetexts import show_recipe
+from redo.stamps import value_by
+from redo.tasks import Task
+
+
+class Settling:
+    def __init__(self, book, held):
+        self.recipes = dict(book[1])
+        # The values of what is made by now: of told things, and of settled ones whose line ends so.
+        self.good = dict(book[0])
+        self.kept = dict(held)
+        self.over = {}
+        self.rows = []
+
+    # Whether a name is that of a made thing that is not settled yet.
+    def is_open(self, name):
+        return name in self.recipes and name not in self.over
+
+    def task_of(self, name):
+        return Task(name, self.recipes[name], own_line(self.recipes, self.kept, name))
+
+    def settle(self, task):
+        outcome = task.outcome()
+        line = outcome[1]
+        self.kept[task.name] = (show_recipe(task.recipe), line)
+        if line[2][0] == "made":
+            self.good[task.name] = value_by(line[2][1])
+        self.over[task.name] = True
+        self.rows.append((outcome[0], task.name))
+
+    def told(self):
+        return (dict(self.kept), list(self.rows))
