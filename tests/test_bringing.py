@@ -152,13 +152,13 @@ class Done(Bringing):
         for many in (40, 48):
             names = things.names(many)
             rows = [f"made {one} want put '{other} say got 0" for one, other in zip(names, names[1:])]
-            book = (lambda book: (book[0], {**book[1], names[-1]: ("say", ("put", 3))}))(book_of_rows(rows))
+            book = book_of_rows(rows + [f"made {names[-1]} say put 3"])
             told = bring(book, {}, names[:1])
             self.assertEqual(told[1], [("done", name) for name in names[::-1]])
             self.assertEqual(told[0][names[0]][1], (names[0], ((names[1], "3"),), ("made", "3")))
             again = bring(book, told[0], names[:1])
             self.assertEqual(again, (told[0], [("kept", name) for name in names[::-1]]))
-            ring = (book[0], {**book[1], names[-1]: ("want", ("put", names[0]), ("say", ("put", 3)))})
+            ring = book_of_rows(rows + [f"made {names[-1]} want put '{names[0]} say put 3"])
             told = bring(ring, told[0], names[:1])
             self.assertEqual(told[1], [("done", name) for name in names[::-1]])
             self.assertEqual(told[0][names[0]][1], (names[0], (), ("wants", names[1])))
