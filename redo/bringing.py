@@ -8,7 +8,10 @@ from redo.settling import Settling
 
 
 def bring(book, held, names):
-    settling = Settling(book, held)
+    return bring_all(Settling(book, held, None), names)
+
+
+def bring_all(settling, names):
     for name in names:
         bring_one(settling, name)
     return settling.told()

@@ -36,12 +36,17 @@ def is_end(thing):
 
 
 def is_right(recipe, line):
-    reads = [(read[0], value_by(read[1])) for read in line[1]]
-    came = replay(recipe, reads, [])
+    return comes_to(recipe, line[1], line[2])
+
+
+# Whether the replay of a recipe on just these reads, and no peeks, comes to just this end.
+
+def comes_to(recipe, reads, end):
+    came = replay(recipe, [(read[0], value_by(read[1])) for read in reads], [])
     if came[0] == "made":
-        return line[2] == ("made", stamp_of(came[1]))
+        return end == ("made", stamp_of(came[1]))
     # What else a replay comes to, strays and peeks, is no line's end.
-    return line[2] == came
+    return end == came
 
 
 def lines_by_names(lines):

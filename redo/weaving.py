@@ -6,7 +6,7 @@ from redo.settling import Settling
 
 class Weave:
     def __init__(self, book, held, names):
-        self.settling = Settling(book, held)
+        self.settling = Settling(book, held, None)
         # The tasks that are not settled yet, by their names.
         self.tasks = {}
         for name in names:

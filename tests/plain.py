@@ -1,6 +1,6 @@
 """Second, plain readings of the document: slow, and in another way than the package."""
 
-from redo.recipetexts import show_recipe
+from redo.recipetexts import read_recipe, show_recipe
 from redo.replays import replay
 from redo.stamps import stamp_of, value_by
 
@@ -131,8 +131,28 @@ def came_to(name, came, reads):
     return (name, tuple(reads), came if came[0] == "fails" else ("wants", came[1]))
 
 
-def brought(book, held, names):
-    """What bringing tells (54, 55), by calling itself."""
+def is_honest(recipe):
+    """No peek is in it (14)."""
+    return recipe[0] != "peek" and all(is_honest(part) for part in recipe[2:])
+
+
+def is_entry(text, reads, end):
+    """Whether it is an entry (74): of a recipe's text, pairs of names and stamps, and a made or failing end."""
+    recipe = read_recipe(text)
+    return is_honest(recipe) and end[0] != "wants" and right(recipe, ("", reads, end))
+
+
+def found(entries, text, reads):
+    """What a shelf of these entries tells (75)."""
+    ends = [end for other, had, end in entries if other == text and had == reads]
+    nexts = [had[len(reads)][0] for other, had, _ in entries
+             if other == text and len(had) > len(reads) and had[:len(reads)] == reads]
+    return (ends + nexts + [None])[0]
+
+
+def brought(book, held, names, entries=None):
+    """What bringing tells (54, 55), by calling itself; where a list of entries is handed in, by a shelf of these,
+    on which what is done is put (78)."""
     held, log, lines = dict(held), [], {}
 
     def stamp(name):
@@ -146,12 +166,24 @@ def brought(book, held, names):
         bring(name)
         return stamp(name)
 
-    def is_kept(name, text):
+    def kept(name, text):
         if name not in held or held[name][0] != text:
-            return False
+            return None
         _, reads, end = held[name][1]
         as_read = all(brought_stamp(read) == was for read, was in reads)
-        return as_read and (end[0] != "wants" or brought_stamp(end[1]) is None)
+        return held[name][1] if as_read and (end[0] != "wants" or brought_stamp(end[1]) is None) else None
+
+    def fetched(name, text):
+        reads = ()
+        while True:
+            answer = found(entries or [], text, reads)
+            if answer is None:
+                return None, None
+            if isinstance(answer, tuple):
+                return "fetched", (name, reads, answer)
+            if brought_stamp(answer) is None:
+                return "done", (name, reads, ("wants", answer))
+            reads += ((answer, stamp(answer)),)
 
     def done(name, recipe):
         reads, given, peeks = [], [], []
@@ -168,14 +200,27 @@ def brought(book, held, names):
             return
         lines[name] = None
         text = show_recipe(book[1][name])
-        word = "kept" if is_kept(name, text) else "done"
-        lines[name] = held[name][1] if word == "kept" else done(name, book[1][name])
-        held[name] = (text, lines[name])
+        word, line = "kept", kept(name, text)
+        if line is None:
+            word, line = fetched(name, text)
+        if line is None:
+            word, line = "done", done(name, book[1][name])
+        lines[name] = line
+        held[name] = (text, line)
         log.append((word, name))
+        shelved = (text,) + line[1:]
+        if entries is not None and word == "done" and is_entry(*shelved) and shelved not in entries:
+            entries.append(shelved)
 
     for name in names:
         bring(name)
     return held, log
+
+
+def stale(book, held):
+    """The stale names (90)."""
+    own = [name for name in sorted(held) if name in book[1] and held[name][0] == show_recipe(book[1][name])]
+    return [name for name in own if not is_honest(book[1][name]) and held[name][1] != line(book, name)]
 
 
 def course(book, held, name, reads):

@@ -4,7 +4,8 @@ import random
 import string
 
 from redo.lines import is_right
-from redo.making import line_of
+from redo.making import good_values, line_of
+from redo.recipes import is_honest
 from redo.recipetexts import show_recipe
 from redo.replays import replay
 from redo.stamps import stamp_of, value_by
@@ -331,6 +332,34 @@ def held_by(filled, *texts):
     """Held of these lines, each with the text of the book's own recipe."""
     lines = [line_by(text) for text in texts]
     return {line[0]: (show_recipe(filled[1][line[0]]), line) for line in lines}
+
+
+def entry(text, words):
+    """An entry of a recipe's text, from words as line_by takes them, but without a name: "b 1 : made 1"."""
+    return (text,) + line_by("x " + words)[1:]
+
+
+def entry_along(source, recipe, good):
+    """An entry of an honest recipe, read mostly by good values."""
+    found = []
+    while True:
+        came = replay(recipe, found, [])
+        if came[0] != "wants":
+            end = ("made", stamp_of(came[1])) if came[0] == "made" else came
+            return (show_recipe(recipe), tuple([(name, stamp_of(read)) for name, read in found]), end)
+        pool = [0, 1, "a", "c", ()] + [good[came[1]]] * 12 if came[1] in good else [0, 1, "a", "c", ()]
+        found.append((came[1], source.choice(pool)))
+
+
+def entries(source, filled):
+    """Any honest entries, many of them of the book's recipes, some twice, or none."""
+    recipes = [recipe for recipe in filled[1].values() if is_honest(recipe)]
+    good = good_values(filled)
+    found = []
+    for _ in range(source.choice([0, 1, 3, 8, 20])):
+        other = right_lively(source, 3, HONEST, NAMES)
+        found.append(entry_along(source, source.choice(recipes * 4 + [other]), good))
+    return found
 
 
 def shuffled(source, filled):
