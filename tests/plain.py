@@ -294,3 +294,32 @@ class Weaving:
         self.log.append((word, name))
         if line[2][0] == "made":
             self.stamps[name] = line[2][1]
+
+
+def nexts(given):
+    """What a line does behind each beginning of its reads: ("name", name) where it wants, else its end."""
+    _, reads, end = given
+    found = {reads[:k]: ("name", read[0]) for k, read in enumerate(reads)}
+    found[reads] = ("name", end[1]) if end[0] == "wants" else end
+    return found
+
+
+def at_odds(one, other):
+    """Whether two lines are at odds (92): behind some reads that both began with they do unlike things."""
+    ones, others = nexts(one), nexts(other)
+    return any(ones[reads] != others[reads] for reads in ones if reads in others)
+
+
+def faults(shown):
+    """The faults (94) of a watch that was shown these pairs (text, line), in this order."""
+    found = []
+    for place, (text, given) in enumerate(shown):
+        elder = [line for other, line in shown[:place] if other == text and at_odds(line, given)]
+        found += [(text, elder[0], given)] if elder else []
+    return found
+
+
+def ordered(paper):
+    """Whether each line stands behind the lines of all names that it reads, where these have one (53)."""
+    places = {given[0]: place for place, given in enumerate(paper)}
+    return all(places.get(read, -1) < places[name] for name, reads, _ in paper for read, _ in reads)

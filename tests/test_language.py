@@ -75,7 +75,7 @@ class Files(Rules):
     def test_the_modules_are_there(self):
         names = "__init__ errors values stamps exprs telling recipes recipetexts replays books booktexts"
         names += " making lines checker papers held bringing reasons deeds sweeping weaving"
-        names += " shelf shelftexts merging fetching audits"
+        names += " shelf shelftexts merging fetching audits untold honest house reports desk"
         for name in names.split():
             self.assertTrue((PACKAGE / (name + ".py")).is_file(), name)
 

@@ -351,6 +351,17 @@ def entry_along(source, recipe, good):
         found.append((came[1], source.choice(pool)))
 
 
+def line_along(source, recipe, name="a", pool=(0, 1, "a", "b", (), (1,))):
+    """A line that is right by an honest recipe, of values of that pool, and often one that ends with wants."""
+    found = []
+    while True:
+        came = replay(recipe, found, [])
+        if came[0] != "wants" or source.random() < 0.1:
+            end = ("made", stamp_of(came[1])) if came[0] == "made" else came
+            return (name, tuple([(read, stamp_of(got)) for read, got in found]), end)
+        found.append((came[1], source.choice(pool)))
+
+
 def entries(source, filled):
     """Any honest entries, many of them of the book's recipes, some twice, or none."""
     recipes = [recipe for recipe in filled[1].values() if is_honest(recipe)]
